@@ -114,6 +114,8 @@ func TestRolls(t *testing.T) { // P11.2
 		{retain.Info{Bytes: 1, First: 90}, api.Config{SegBytes: 100, SegAge: 10}, 100, 1, false},
 		{retain.Info{Bytes: 1, First: 90}, api.Config{SegBytes: 100, SegAge: 10}, 101, 1, true},
 		{retain.Info{Bytes: 0, First: 90}, api.Config{SegBytes: 100, SegAge: 10}, 101, 1, false},
+		{retain.Info{Bytes: 1, First: 90}, api.Config{SegBytes: 100, SegAge: 1}, 92, 1, true},
+		{retain.Info{Bytes: 1, First: 90}, api.Config{SegBytes: 100, SegAge: 1}, 91, 1, false},
 		{retain.Info{Bytes: 1, First: 90, Most: 101}, api.Config{SegBytes: 100, SegAge: 10}, 101, 1, true},
 		{retain.Info{Bytes: 1, First: 101, Most: 0}, api.Config{SegBytes: 100, SegAge: 10}, 101, 1, false},
 		{retain.Info{Bytes: 1, First: 0}, api.Config{SegBytes: 100, SegAge: 0}, 1000, 1, false},
