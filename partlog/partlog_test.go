@@ -445,6 +445,17 @@ func TestTrim(t *testing.T) { // P15.4
 	done(t, l, plain(3), 0)
 	m.append(plain(3), 0)
 	agree(t, "a segment behind Start, that has one behind it only now", l, m)
+	kept := m.copy()
+	if e := l.Flush(); e != api.OK {
+		t.Fatal(e)
+	}
+	kept.flushed = kept.end
+	again := opened(t, d.Crash(), c)
+	agree(t, "opened with it", again, kept)
+	if a, b := again.Trim(again.Start()), kept.trim(kept.start); a != b || len(kept.segs) >= len(m.segs) {
+		t.Errorf("Trim to Start is %d, not %d", a, b)
+	}
+	agree(t, "it goes without a new Start", again, kept)
 	if e := l.Flush(); e != api.OK {
 		t.Fatal(e)
 	}
