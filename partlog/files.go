@@ -38,7 +38,7 @@ func digits(n int) string {
 	return strings.Repeat("0", markDigits-len(s)) + s
 }
 
-// readMark finds the mark among all files.
+// readMark finds the mark among files.
 func readMark(files []string, dir string) (mark string, start, first int) {
 	for _, name := range files {
 		rest, is := strings.CutPrefix(name, dir+markName)
@@ -98,7 +98,7 @@ func Open(d *disk.Disk, dir string, c api.Config) (*Log, api.Errno) {
 		return nil, api.ErrArg
 	}
 	l := &Log{d: d, dir: dir, c: c}
-	files := d.Names()
+	files := filesOf(d, dir)
 	mark, start, first := readMark(files, dir)
 	l.mark = mark
 	if e := l.openSegments(files, first); e != api.OK {
@@ -115,6 +115,17 @@ func Open(d *disk.Disk, dir string, c api.Config) (*Log, api.Errno) {
 	l.flushed = l.End()
 	l.readTable()
 	return l, api.OK
+}
+
+// filesOf is the files that may be a log's, among all.
+func filesOf(d *disk.Disk, dir string) []string {
+	var files []string
+	for _, name := range d.Names() {
+		if strings.HasPrefix(name, dir+"/") {
+			files = append(files, name)
+		}
+	}
+	return files
 }
 
 // openSegments opens those from first on; the ones ahead were about to go.
