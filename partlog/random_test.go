@@ -133,12 +133,10 @@ func mayBe(l *partlog.Log, was, then *model, kind string) string {
 	if kind == "clean" { // segment by segment: what is behind is as of any other act
 		return cleanedMayBe(got, was, then)
 	}
-	before := was.flat()
-	if l.Start() == then.start && l.Start() != was.start {
-		before = then.flat()
-	}
-	if !prefixed(flat, before) && !(kind == "append" && prefixed(flat, then.flat())) {
-		return fmt.Sprintf("batches %v of %v", flat, before)
+	old := l.Start() == min(was.start, l.End()) && prefixed(flat, was.flat())
+	fresh := l.Start() == min(then.start, l.End()) && prefixed(flat, then.flat())
+	if !old && !fresh {
+		return fmt.Sprintf("batches %v of %v, Start %d", flat, was.flat(), l.Start())
 	}
 	if len(flat) > 0 && l.End() != max(flat[len(flat)-1].Last+1, got.bases[len(got.bases)-1]) {
 		return fmt.Sprint("End ", l.End())
