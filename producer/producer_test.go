@@ -27,14 +27,18 @@ func added(t *testing.T, l ...api.Batch) *producer.Table {
 	return table
 }
 
-// checks asks Check, and Add on a copy, which must agree.
+// checks asks Check, and Add on a copy, which must agree, but of a batch without
+// records: Add refuses that.
 func checks(t *testing.T, what string, table *producer.Table, b api.Batch, base int, dup bool, e api.Errno) {
 	t.Helper()
 	gotBase, gotDup, got := table.Check(b)
 	if gotBase != base || gotDup != dup || got != e {
 		t.Errorf("%s: Check is %d, %v, %d", what, gotBase, gotDup, got)
 	}
-	if dup {
+	switch {
+	case b.Producer > 0 && len(b.Records) == 0:
+		e = api.ErrSeq
+	case dup:
 		e = api.ErrDup
 	}
 	other := table.Copy()
@@ -53,7 +57,6 @@ func TestCheckOfAProducerThatIsNotKnown(t *testing.T) { // P10.1
 		checks(t, what, table, of(1, 0, 1, 3, 9), 0, false, api.ErrSeq)
 		checks(t, what, table, of(1, 0, 3, 3, 9), 0, false, api.ErrSeq)
 		checks(t, what, table, of(1, 0, -1, 3, 9), 0, false, api.ErrSeq)
-		checks(t, what, table, of(1, 0, 0, 0, 9), 0, false, api.ErrSeq)
 	}
 }
 
@@ -104,8 +107,36 @@ func TestCheckOfNumbers(t *testing.T) { // P10.1, P10.3
 	for _, seq := range []int{7, 8, 1000, math.MaxInt} {
 		checks(t, "a gap", table, of(1, 3, seq, 1, 7), 0, false, api.ErrSeq)
 	}
-	checks(t, "the next one without records", table, of(1, 3, 6, 0, 7), 0, false, api.ErrSeq)
 	checks(t, "another producer", table, of(2, 3, 0, 3, 7), 0, false, api.OK)
+}
+
+func TestBatchesWithoutRecords(t *testing.T) { // P10.1
+	table := producer.New()
+	checks(t, "not known", table, of(1, 0, 0, 0, 9), 0, false, api.OK)
+	checks(t, "not known, of some epoch", table, of(1, 7, 0, 0, 9), 0, false, api.OK)
+	for _, seq := range []int{-1, 1, 4} {
+		checks(t, "not known, not from the beginning", table, of(1, 0, seq, 0, 9), 0, false, api.ErrSeq)
+	}
+	table = added(t, of(2, 3, 0, 1, 0), of(1, 3, 0, 3, 100), of(1, 3, 3, 1, 110))
+	checks(t, "the next one", table, of(1, 3, 4, 0, 7), 0, false, api.OK)
+	for _, seq := range []int{math.MinInt, -1, 0, 1, 3} {
+		checks(t, "below the next one", table, of(1, 3, seq, 0, 7), 0, false, api.ErrDup)
+	}
+	for _, seq := range []int{5, 6, math.MaxInt} {
+		checks(t, "a gap", table, of(1, 3, seq, 0, 7), 0, false, api.ErrSeq)
+	}
+	for _, seq := range []int{0, 4} {
+		checks(t, "an epoch below", table, of(1, 2, seq, 0, 7), 0, false, api.ErrEpoch)
+	}
+	checks(t, "an epoch above", table, of(1, 4, 0, 0, 7), 0, false, api.OK)
+	checks(t, "an epoch above, not from the beginning", table, of(1, 4, 4, 0, 7), 0, false, api.ErrSeq)
+	var none *producer.Table
+	if base, dup, e := none.Check(of(1, 0, 0, 0, 7)); base != 0 || dup || e != api.OK {
+		t.Errorf("Check of a nil Table is %d, %v, %d", base, dup, e)
+	}
+	if e := none.Add(of(1, 0, 0, 0, 7)); e != api.ErrSeq {
+		t.Errorf("Add to a nil Table is %d", e)
+	}
 }
 
 func TestWindow(t *testing.T) { // P10.1
