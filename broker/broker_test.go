@@ -179,8 +179,11 @@ func TestProducers(t *testing.T) { // P22.2
 	id := func(offset int) api.Request { return api.Request{Kind: api.RProducer, Offset: offset} }
 	is(t, b, id(0), api.Response{Offset: 1})
 	is(t, b, id(0), api.Response{Offset: 2})
+	is(t, b, id(1), api.Response{Gen: 0})
 	is(t, b, id(1), api.Response{Gen: 1})
+	is(t, b, id(0), api.Response{Offset: 3})
 	is(t, b, id(1), api.Response{Gen: 2})
+	is(t, b, id(3), api.Response{Gen: 0})
 	is(t, b, id(70), api.Response{Gen: 0})
 	is(t, b, id(70), api.Response{Gen: 1})
 	produces(t, b, "a", 1, data(t, 40, 8, 0, "k=v"))
@@ -188,7 +191,10 @@ func TestProducers(t *testing.T) { // P22.2
 	is(t, b, id(0), api.Response{Offset: 41})
 	is(t, b, id(40), api.Response{Gen: 9})
 	is(t, b, id(40), api.Response{Gen: 10})
+	produces(t, b, "a", 1, data(t, 41, 0, 0, "k=v"))
+	is(t, b, id(41), api.Response{Gen: 1})
 	is(t, b, id(1<<40), api.Response{Gen: 0})
+	is(t, b, id(0), api.Response{Offset: 42})
 	for _, offset := range []int{-1, math.MinInt, 1<<40 + 1, math.MaxInt} {
 		refuses(t, b, id(offset), api.ErrArg)
 	}

@@ -125,7 +125,8 @@ func batchOf(records []api.Record) api.Batch {
 	return api.Batch{Base: records[0].Offset, Last: records[len(records)-1].Offset, Records: records}
 }
 
-// producer gives a new producer, of 0, or a new epoch of one that is there.
+// producer gives a new producer, of 0, or the next epoch of an id. The request that
+// gave the id is none that gave it an epoch.
 func (b *Broker) producer(id int) (api.Response, api.Errno) {
 	switch {
 	case id < 0 || id > maxProducer:
@@ -160,6 +161,5 @@ func (b *Broker) newProducer() (api.Response, api.Errno) {
 		return api.Response{}, api.ErrOver
 	}
 	b.given = id
-	b.epochs[id] = max(b.epochs[id], 0)
 	return api.Response{Offset: id}, api.OK
 }
