@@ -28,7 +28,7 @@ func added(t *testing.T, l ...api.Batch) *producer.Table {
 }
 
 // checks asks Check, and Add on a copy, which must agree, but of a batch without
-// records: Add refuses that.
+// records that Check lets pass: Add refuses that.
 func checks(t *testing.T, what string, table *producer.Table, b api.Batch, base int, dup bool, e api.Errno) {
 	t.Helper()
 	gotBase, gotDup, got := table.Check(b)
@@ -36,10 +36,10 @@ func checks(t *testing.T, what string, table *producer.Table, b api.Batch, base 
 		t.Errorf("%s: Check is %d, %v, %d", what, gotBase, gotDup, got)
 	}
 	switch {
-	case b.Producer > 0 && len(b.Records) == 0:
-		e = api.ErrSeq
 	case dup:
 		e = api.ErrDup
+	case e == api.OK && b.Producer > 0 && len(b.Records) == 0:
+		e = api.ErrSeq
 	}
 	other := table.Copy()
 	if got := other.Add(b); got != e {
@@ -136,6 +136,36 @@ func TestBatchesWithoutRecords(t *testing.T) { // P10.1
 	}
 	if e := none.Add(of(1, 0, 0, 0, 7)); e != api.ErrSeq {
 		t.Errorf("Add to a nil Table is %d", e)
+	}
+}
+
+func TestAddWithoutRecordsTellsCheckFirst(t *testing.T) { // P10.1, rule 1 of DOC.md
+	table := added(t, of(1, 2, 0, 1, 50))
+	for _, c := range []struct {
+		what           string
+		id, epoch, seq int
+		want           api.Errno
+	}{
+		{"below the next one", 1, 2, 0, api.ErrDup},
+		{"far below the next one", 1, 2, math.MinInt, api.ErrDup},
+		{"the next one", 1, 2, 1, api.ErrSeq},
+		{"a gap", 1, 2, 7, api.ErrSeq},
+		{"an epoch below", 1, 1, 0, api.ErrEpoch},
+		{"an epoch below, the next number", 1, 1, 1, api.ErrEpoch},
+		{"an epoch below, a gap", 1, -1, 7, api.ErrEpoch},
+		{"an epoch above", 1, 3, 0, api.ErrSeq},
+		{"an epoch above, not from the beginning", 1, 3, 1, api.ErrSeq},
+		{"not known", 2, 2, 0, api.ErrSeq},
+		{"not known, not from the beginning", 2, 2, 1, api.ErrSeq},
+		{"no producer", 0, 2, 7, api.OK},
+		{"below no producer", -1, 1, 0, api.OK},
+	} {
+		if e := table.Add(of(c.id, c.epoch, c.seq, 0, 60)); e != c.want {
+			t.Errorf("%s: Add is %d, not %d", c.what, e, c.want)
+		}
+		if !producer.Same(table, added(t, of(1, 2, 0, 1, 50))) {
+			t.Errorf("%s: Add changes the table", c.what)
+		}
 	}
 }
 
